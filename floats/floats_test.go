@@ -9,20 +9,8 @@ import (
 
 	"rhizome/api"
 	"rhizome/floats"
+	"rhizome/samples"
 )
-
-// spread is a row of numbers of all bits that is the same in each run.
-func spread(n int) []uint64 {
-	l := make([]uint64, n)
-	x := uint64(88172645463325252)
-	for i := range l {
-		x ^= x << 13
-		x ^= x >> 7
-		x ^= x << 17
-		l[i] = x * 2685821657736338717
-	}
-	return l
-}
 
 // edgeSizes are finite sizes beside each bound: of tiny and normal ones, of powers of two and of ten, of whole numbers.
 func edgeSizes() []uint64 {
@@ -39,7 +27,7 @@ func edgeSizes() []uint64 {
 // finites are finite numbers of both signs.
 func finites() []uint64 {
 	l := edgeSizes()
-	for _, x := range spread(700) {
+	for _, x := range samples.Spread(700) {
 		l = append(l, x%infinity)
 	}
 	n := len(l)
@@ -77,7 +65,7 @@ func TestKind(t *testing.T) {
 			}
 		}
 	}
-	for _, bits := range slices.Concat(finites(), infinities, noNumbers, spread(3000)) {
+	for _, bits := range slices.Concat(finites(), infinities, noNumbers, samples.Spread(3000)) {
 		if got := floats.Kind(bits); got != modelKind(bits) {
 			t.Errorf("%x: %d", bits, got)
 		}
@@ -272,7 +260,7 @@ func TestParseHalfway(t *testing.T) {
 }
 
 func TestParseBesideHalfway(t *testing.T) {
-	for i, size := range slices.Concat(edgeSizes(), spread(300)) {
+	for i, size := range slices.Concat(edgeSizes(), samples.Spread(300)) {
 		size %= infinity
 		for _, s := range textsAround(halfway(size)) {
 			if i%3 == 0 {
@@ -284,7 +272,7 @@ func TestParseBesideHalfway(t *testing.T) {
 }
 
 func TestParseSpread(t *testing.T) {
-	x := spread(4000)
+	x := samples.Spread(4000)
 	for i := 0; i < len(x); i += 4 {
 		whole := new(big.Int).SetUint64(x[i]).String()
 		part := new(big.Int).SetUint64(x[i+1]).String()
@@ -302,7 +290,7 @@ func TestOf(t *testing.T) {
 		}
 	}
 	l := []int{0, 1, 2, 3, 1<<53 - 1, 1 << 53, 1<<54 + 2, 1<<54 + 6, 1<<62 - 1, 1<<62 + 256, 1<<62 + 257, math.MaxInt - 511, math.MaxInt - 512, math.MaxInt - 513, math.MaxInt}
-	for _, x := range spread(500) {
+	for _, x := range samples.Spread(500) {
 		l = append(l, int(x>>1), int(x>>8), int(x>>40))
 	}
 	for _, n := range l {
@@ -339,7 +327,7 @@ func TestTextHalfway(t *testing.T) {
 			t.Errorf("%f: %s, %d", f, got, e)
 		}
 	}
-	for _, x := range spread(600) {
+	for _, x := range samples.Spread(600) {
 		whole := 1125899906842624 + x%1125899906842624
 		for _, f := range []float64{float64(whole) + 0.25, float64(whole) + 0.75, float64(whole)/1024 + 0.5/4096} {
 			wantText(t, math.Float64bits(f))
@@ -428,7 +416,7 @@ func TestFromKeyOfKey(t *testing.T) {
 			t.Errorf("%x: %x, %d", bits, got, e)
 		}
 	}
-	for _, key := range spread(3000) {
+	for _, key := range samples.Spread(3000) {
 		bits, e := floats.FromKey(key)
 		if e != api.OK {
 			continue
@@ -443,7 +431,7 @@ func TestFromKeyOfKey(t *testing.T) {
 
 func TestParseOfText(t *testing.T) {
 	l := finites()
-	for _, x := range spread(30000) {
+	for _, x := range samples.Spread(30000) {
 		if x%sign < infinity {
 			l = append(l, x)
 		}
@@ -472,7 +460,7 @@ func TestKeysStandInTheOrder(t *testing.T) {
 
 func TestTextsThatSayNoMore(t *testing.T) {
 	var texts []string
-	for _, size := range slices.Concat(edgeSizes(), spread(100)) {
+	for _, size := range slices.Concat(edgeSizes(), samples.Spread(100)) {
 		size %= greatest
 		for _, s := range textsAround(halfway(size)) {
 			texts = append(texts, s, "-"+s)

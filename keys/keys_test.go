@@ -8,6 +8,7 @@ import (
 
 	"rhizome/api"
 	"rhizome/keys"
+	"rhizome/samples"
 )
 
 func whole(n int) api.Part { return api.Part{Kind: api.PartInt, Int: n} }
@@ -15,19 +16,6 @@ func whole(n int) api.Part { return api.Part{Kind: api.PartInt, Int: n} }
 func number(bits uint64) api.Part { return api.Part{Kind: api.PartFloat, Bits: bits} }
 
 func text(s string) api.Part { return api.Part{Kind: api.PartText, Text: s} }
-
-// spread is a row of numbers of all bits that is the same in each run.
-func spread(n int) []uint64 {
-	l := make([]uint64, n)
-	x := uint64(88172645463325252)
-	for i := range l {
-		x ^= x << 13
-		x ^= x >> 7
-		x ^= x << 17
-		l[i] = x * 2685821657736338717
-	}
-	return l
-}
 
 // someParts are parts that may be a key's, at the edges of each kind.
 func someParts() []api.Part {
@@ -53,7 +41,7 @@ func someKeys() [][]api.Part {
 		q, r := parts[i*7%len(parts)], parts[i*29%len(parts)]
 		l = append(l, []api.Part{p}, []api.Part{p, whole(0)}, []api.Part{p, text("")}, []api.Part{p, p}, []api.Part{q, p}, []api.Part{q, p, r})
 	}
-	for _, x := range spread(60) {
+	for _, x := range samples.Spread(60) {
 		var key []api.Part
 		for n := x % 17; n > 0; n-- {
 			key = append(key, parts[(x>>n)%uint64(len(parts))])
@@ -406,7 +394,7 @@ func TestDecodeOfEncode(t *testing.T) {
 
 func TestNoOtherBytesAreDecoded(t *testing.T) {
 	rows := shortRows(6)
-	for _, x := range spread(3000) {
+	for _, x := range samples.Spread(3000) {
 		row := []byte{byte(1 + x%2)}
 		for i := range 8 {
 			row = append(row, byte(x>>(8*i)))
