@@ -22,21 +22,6 @@ func isAsModel(t *testing.T, s string) api.Errno {
 	return e
 }
 
-// rows hands all rows of at most n of the pieces to see.
-func rows(n int, pieces []string, see func(string)) {
-	var more func(string, int)
-	more = func(ahead string, left int) {
-		see(ahead)
-		if left == 0 {
-			return
-		}
-		for _, p := range pieces {
-			more(ahead+p, left-1)
-		}
-	}
-	more("", n)
-}
-
 // P4.3
 
 func TestParseExamples(t *testing.T) {
@@ -222,15 +207,21 @@ func TestParseManyMembers(t *testing.T) {
 }
 
 func TestParseModelSigns(t *testing.T) {
-	rows(5, []string{"[", "]", "{", "}", ",", ":", `"a"`, `"\u0061"`, "-0", "12", " ", "null"}, func(s string) { isAsModel(t, s) })
+	for s := range samples.Rows(5, "[", "]", "{", "}", ",", ":", `"a"`, `"\u0061"`, "-0", "12", " ", "null") {
+		isAsModel(t, s)
+	}
 }
 
 func TestParseModelStrings(t *testing.T) {
-	rows(4, []string{"a", `"`, `\`, "u", "d83d", `\ud83d`, `\uDE00`, `\u0041`, "\xc3", "\xa9", "\x1f", "\x7f", "/", "n", "0"}, func(s string) { isAsModel(t, `"`+s+`"`) })
+	for s := range samples.Rows(4, "a", `"`, `\`, "u", "d83d", `\ud83d`, `\uDE00`, `\u0041`, "\xc3", "\xa9", "\x1f", "\x7f", "/", "n", "0") {
+		isAsModel(t, `"`+s+`"`)
+	}
 }
 
 func TestParseModelNumbers(t *testing.T) {
-	rows(6, []string{"0", "1", "9", "-", "+", ".", "e"}, func(s string) { isAsModel(t, s) })
+	for s := range samples.Rows(6, "0", "1", "9", "-", "+", ".", "e") {
+		isAsModel(t, s)
+	}
 }
 
 // Texts of values, with one byte of them changed, left out, or put in.
@@ -254,15 +245,15 @@ func TestParseModelBroken(t *testing.T) {
 
 // The library's JSON reads the same texts, but for what rhizome tells as errors of its own.
 func TestParseLibrary(t *testing.T) {
-	rows(5, []string{"[", "]", "{", "}", ",", ":", `"a"`, `"b"`, "1", "1.5e1", "\t", "true"}, func(s string) {
+	for s := range samples.Rows(5, "[", "]", "{", "}", ",", ":", `"a"`, `"b"`, "1", "1.5e1", "\t", "true") {
 		_, e := jsons.Parse(s)
 		if e == api.ErrJsonTwice || e == api.ErrJsonNumber {
-			return
+			continue
 		}
 		if ok := json.Valid([]byte(s)); ok != (e == api.OK) {
 			t.Errorf("%q: %d, library: %v", s, e, ok)
 		}
-	})
+	}
 }
 
 // P4.4
@@ -319,10 +310,10 @@ func TestThereAndBack(t *testing.T) {
 
 func TestWhatIsParsedMayBe(t *testing.T) {
 	seen := 0
-	rows(4, []string{"[", "]", "{", "}", ",", ":", `"a"`, `"\ud83d\ude00"`, "-0", "1e5", " ", "false", "9007199254740993"}, func(s string) {
+	for s := range samples.Rows(4, "[", "]", "{", "}", ",", ":", `"a"`, `"\ud83d\ude00"`, "-0", "1e5", " ", "false", "9007199254740993") {
 		v, e := jsons.Parse(s)
 		if e != api.OK {
-			return
+			continue
 		}
 		seen++
 		text, f := jsons.Print(v)
@@ -330,7 +321,7 @@ func TestWhatIsParsedMayBe(t *testing.T) {
 		if jsons.Check(v) != api.OK || f != api.OK || g != api.OK || !same(v, again) {
 			t.Errorf("%s: %v, %s, %d, %v, %d", s, v, text, f, again, g)
 		}
-	})
+	}
 	if seen < 100 {
 		t.Error("hardly any text is right:", seen)
 	}
