@@ -536,158 +536,31 @@ func TestParseAll(t *testing.T) {
 	}
 }
 
-// maker makes trees of numbers.
-type maker struct {
-	numbers []uint64
-	left    int // about how many tokens the tree may still have
-}
-
-// pick is a number below n.
-func (m *maker) pick(n int) int {
-	x := m.numbers[0]
-	m.numbers = append(m.numbers[1:], x*6364136223846793005+1442695040888963407)
-	return int(x >> 33 % uint64(n))
-}
-
-// many is how many there are of what costs so many tokens: none, if the tree is large already.
-func (m *maker) many(most, cost int) int {
-	if m.left < 0 {
-		return 0
-	}
-	n := m.pick(most + 1)
-	m.left -= n * cost
-	return n
-}
-
-func (m *maker) name() string {
-	l := strings.Fields("a b c on query mutation subscription fragment null true false _1 T")
-	return l[m.pick(len(l))]
-}
-
-// fragName is a name but `on`.
-func (m *maker) fragName() string { return strings.ReplaceAll(m.name(), "on", "f") }
-
-func (m *maker) value(deep int, fixed bool) api.Value {
-	kind := m.pick(api.ValKinds)
-	v := api.Value{Kind: kind}
-	switch {
-	case kind == api.ValVar && !fixed:
-		v.Text = m.name()
-	case kind == api.ValInt:
-		v.Text = []string{"0", "-1", "12"}[m.pick(3)]
-	case kind == api.ValFloat:
-		v.Text = []string{"0.0", "-1e5", "1.5E-3"}[m.pick(3)]
-	case kind == api.ValText:
-		v.Text = []string{"", "{", "on", "a\n\"b\"", "é"}[m.pick(5)]
-	case kind == api.ValEnum:
-		v.Text = []string{"A", "on", "query", "NULL"}[m.pick(4)]
-	case kind >= api.ValList && deep > 0:
-		for range m.many(3, 3) {
-			v.List = append(v.List, m.value(deep-1, fixed))
-			if kind == api.ValObject {
-				v.Names = append(v.Names, m.name())
-			}
-		}
-	case kind > api.ValTrue:
-		v.Kind = api.ValNull
-	}
-	return v
-}
-
-func (m *maker) args(fixed bool) []api.Arg {
-	var l []api.Arg
-	for range m.many(2, 3) {
-		l = append(l, api.Arg{Name: m.name(), Value: m.value(4, fixed)})
-	}
-	return l
-}
-
-func (m *maker) directives(fixed bool) []api.Directive {
-	var l []api.Directive
-	for range m.many(2, 2) {
-		l = append(l, api.Directive{Name: m.name(), Args: m.args(fixed)})
-	}
-	return l
-}
-
-func (m *maker) vars() []api.Var {
-	var l []api.Var
-	for range m.many(3, 5) {
-		v := api.Var{Name: m.name(), Type: api.Ref{Name: m.name(), Wraps: strings.Fields("! [ ![ [! ![! [[ [![! ![[ ![![!")[m.pick(9)]}}
-		if m.pick(3) == 0 {
-			v.Type.Wraps = ""
-		}
-		if m.pick(2) == 0 {
-			v.Has, v.Default = true, m.value(4, true)
-		}
-		v.Directives = m.directives(true)
-		l = append(l, v)
-	}
-	return l
-}
-
-// sels is one selection or more.
-func (m *maker) sels(deep int) []api.Sel {
-	var l []api.Sel
-	for range 1 + m.many(3, 4) {
-		x := api.Sel{Kind: m.pick(api.SelKinds), Directives: m.directives(false)}
-		if deep == 0 {
-			x.Kind = api.SelSpread
-		}
-		switch x.Kind {
-		case api.SelField:
-			x.Name = m.name()
-			if m.pick(2) == 0 {
-				x.Alias = m.name()
-			}
-			x.Args = m.args(false)
-			if m.pick(2) == 0 {
-				x.Sels = m.sels(deep - 1)
-			}
-		case api.SelSpread:
-			x.Name = m.fragName()
-		case api.SelInline:
-			if m.pick(2) == 0 {
-				x.On = m.name()
-			}
-			x.Sels = m.sels(deep - 1)
-		}
-		l = append(l, x)
-	}
-	return l
-}
-
-// doc is a tree and a row of tokens that says it: operations and fragments in any order.
-func (m *maker) doc() (api.Doc, []string) {
+// madeDoc is a tree and a row of tokens that says it: operations and fragments in any order.
+func madeDoc(m *samples.Trees) (api.Doc, []string) {
 	var d api.Doc
 	var w writer
-	for range 1 + m.pick(4) {
-		if m.pick(3) == 0 {
-			x := api.Frag{Name: m.fragName(), On: m.name(), Directives: m.directives(false), Sels: m.sels(5)}
+	for range 1 + m.Pick(4) {
+		if m.Pick(3) == 0 {
+			x := m.Frag()
 			d.Frags = append(d.Frags, x)
 			w.frag(x)
 			continue
 		}
-		x := api.Op{Sels: m.sels(5)}
-		if m.pick(2) == 0 {
-			x = api.Op{Kind: m.pick(api.OpKinds), Vars: m.vars(), Directives: m.directives(false), Sels: x.Sels}
-		}
-		if m.pick(2) == 0 {
-			x.Name = m.name()
-		}
+		x := m.Op()
 		d.Ops = append(d.Ops, x)
-		w.op(x, m.pick(2) == 0)
+		w.op(x, m.Pick(2) == 0)
 	}
 	return d, w.row
 }
 
 // spell is a row of tokens as a document, with what is ignored between them: sometimes nothing at all, where nothing is needed.
-func (m *maker) spell(row []string) string {
+func spell(m *samples.Trees, row []string) string {
 	ignored := []string{" ", "\n", "\r", ",", "\t", "\ufeff", "#{\"\n", "# é\r", " ,\r\n"}
 	var b strings.Builder
 	for i, x := range row {
-		if i > 0 && (row[i-1][0] != 'p' && x[0] != 'p' || x == "p..." || m.pick(3) > 0) {
-			b.WriteString(ignored[m.pick(len(ignored))])
+		if i > 0 && (row[i-1][0] != 'p' && x[0] != 'p' || x == "p..." || m.Pick(3) > 0) {
+			b.WriteString(ignored[m.Pick(len(ignored))])
 		}
 		if x[0] == 't' {
 			b.WriteString(lex.Quote(x[1:]))
@@ -701,9 +574,9 @@ func (m *maker) spell(row []string) string {
 // made are n trees, each with two documents that say it.
 func made(n int, use func(d api.Doc, s, again string)) {
 	for _, x := range samples.Spread(n) {
-		m := maker{numbers: []uint64{x, ^x, x * 3}, left: 300}
-		d, row := m.doc()
-		use(d, m.spell(row), m.spell(row))
+		m := samples.NewTrees(x, 300)
+		d, row := madeDoc(m)
+		use(d, spell(m, row), spell(m, row))
 	}
 }
 
