@@ -1,0 +1,85 @@
+// Package sets says what chapter 11 calls sets, their parents and their fields' Outs, for the layers that ask rules of a document: see shared/doc/11-fields.md.
+package sets
+
+import (
+	"iter"
+
+	"rhizome/api"
+	"rhizome/gen"
+)
+
+// Placed is a selection as it stands in a set.
+type Placed struct {
+	api.Sel
+	Parent string // the set's
+	Out    api.Out
+	HasOut bool // only a field may have one
+}
+
+// All tells each selection of a document, however deep it stands.
+func All(d api.Doc, defs []api.Def) iter.Seq[Placed] {
+	return func(yield func(Placed) bool) {
+		for _, x := range d.Ops {
+			if !each(x.Sels, Root(x.Kind), defs, yield) {
+				return
+			}
+		}
+		for _, x := range d.Frags {
+			if !each(x.Sels, x.On, defs, yield) {
+				return
+			}
+		}
+	}
+}
+
+// Root is the parent of an operation's set, of the operation's kind; empty: it has none.
+func Root(kind int) string {
+	switch kind {
+	case api.OpQuery:
+		return "Query"
+	case api.OpMutation:
+		return "Mutation"
+	}
+	return ""
+}
+
+// Kind is that of a name's definition; -1: there is none.
+func Kind(defs []api.Def, name string) int {
+	at := gen.Find(defs, name)
+	if at < 0 {
+		return -1
+	}
+	return max(defs[at].Kind, -1)
+}
+
+// each hands on the one yield, so that what stands deep costs no more than what does not.
+func each(l []api.Sel, parent string, defs []api.Def, yield func(Placed) bool) bool {
+	for _, x := range l {
+		p := place(x, parent, defs)
+		if !yield(p) || !each(x.Sels, p.within(), defs, yield) {
+			return false
+		}
+	}
+	return true
+}
+
+func place(x api.Sel, parent string, defs []api.Def) Placed {
+	p := Placed{Sel: x, Parent: parent}
+	if x.Kind == api.SelField {
+		p.Out, p.HasOut = gen.Out(defs, parent, x.Name)
+	}
+	return p
+}
+
+// within is the parent of the selection's own set.
+func (p Placed) within() string {
+	switch {
+	case p.Kind == api.SelField:
+		return p.Out.Type.Name
+	case p.Kind == api.SelInline && p.On == "":
+		return p.Parent
+	case p.Kind == api.SelInline:
+		return p.On
+	}
+	return ""
+}
