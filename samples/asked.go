@@ -10,19 +10,14 @@ import (
 type asker struct {
 	*Trees
 	defs  []api.Def
-	frags []api.Frag
+	frags []api.Frag // those that are whole
 }
 
-// Asked is a document that asks definitions, with a Query and a Mutation, for what they have, and so breaks no rule of package fields.
+// Asked is a document that asks definitions, with a Query and a Mutation, for what they have, and so breaks no rule of packages fields and frags.
 func (m *Trees) Asked(defs []api.Def) api.Doc {
 	a := &asker{Trees: m, defs: defs}
-	for i := range m.many(3, 20) {
-		a.frags = append(a.frags, api.Frag{Name: "f" + strconv.Itoa(i), On: a.object()})
-	}
-	for i := range a.frags {
-		a.frags[i].Sels = a.set(a.frags[i].On, 2)
-	}
-	return api.Doc{Ops: a.ops(1 + m.many(2, 20)), Frags: a.frags}
+	ops := a.ops(1 + m.many(2, 20))
+	return api.Doc{Ops: ops, Frags: a.frags}
 }
 
 // ops are so many: each has a name of its own, but one that is alone may have none.
@@ -44,17 +39,6 @@ func (a *asker) ops(n int) []api.Op {
 		l = append(l, x)
 	}
 	return l
-}
-
-// object is the name of an object's definition.
-func (a *asker) object() string {
-	var l []string
-	for _, x := range a.defs {
-		if x.Kind == api.DefObject {
-			l = append(l, x.Name)
-		}
-	}
-	return l[a.Pick(len(l))]
 }
 
 // kind is that of a name's definition; -1: there is none.
@@ -84,8 +68,8 @@ func (a *asker) asked(parent string, deep int) api.Sel {
 		return api.Sel{Kind: api.SelInline, Sels: a.set(parent, deep-1)}
 	case n == 1 && deep > 0:
 		return api.Sel{Kind: api.SelInline, On: parent, Sels: a.set(parent, deep-1)}
-	case n == 2 && len(a.frags) > 0:
-		return api.Sel{Kind: api.SelSpread, Name: a.frags[a.Pick(len(a.frags))].Name}
+	case n == 2 && deep > 0:
+		return api.Sel{Kind: api.SelSpread, Name: a.frag(parent, deep-1)}
 	}
 	x := api.Sel{Name: "__typename"}
 	if out, ok := a.out(parent, deep); ok {
@@ -98,6 +82,23 @@ func (a *asker) asked(parent string, deep int) api.Sel {
 		x.Alias = a.name()
 	}
 	return x
+}
+
+// frag is the name of a fragment for a parent: of one that is there, or of a new one. As only a whole one is spread again, none leads to itself.
+func (a *asker) frag(parent string, deep int) string {
+	var l []string
+	for _, x := range a.frags {
+		if x.On == parent {
+			l = append(l, x.Name)
+		}
+	}
+	if n := a.Pick(len(l) + 1); n < len(l) {
+		return l[n]
+	}
+	x := api.Frag{On: parent, Sels: a.set(parent, deep)}
+	x.Name = "f" + strconv.Itoa(len(a.frags))
+	a.frags = append(a.frags, x)
+	return x.Name
 }
 
 // out is a field that a parent has; if nothing more may stand within, one of which nothing is chosen.

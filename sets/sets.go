@@ -1,8 +1,9 @@
-// Package sets says what chapter 11 calls sets, their parents and their fields' Outs, for the layers that ask rules of a document: see shared/doc/11-fields.md.
+// Package sets says what chapter 11 calls sets, their parents and their fields' Outs, and what chapter 12 calls the fragment of a name, for the layers that ask rules of a document: see shared/doc/11-fields.md and shared/doc/12-frags.md.
 package sets
 
 import (
 	"iter"
+	"slices"
 
 	"rhizome/api"
 	"rhizome/gen"
@@ -32,6 +33,20 @@ func All(d api.Doc, defs []api.Def) iter.Seq[Placed] {
 	}
 }
 
+// Spreads tells the name of each spread in selections, however deep it stands.
+func Spreads(l []api.Sel) iter.Seq[string] {
+	return func(yield func(string) bool) { spreads(l, yield) }
+}
+
+// Frags are the fragments of a list by their names: of several with one name the first.
+func Frags(l []api.Frag) map[string]api.Frag {
+	first := map[string]api.Frag{}
+	for _, x := range slices.Backward(l) {
+		first[x.Name] = x
+	}
+	return first
+}
+
 // Root is the parent of an operation's set, of the operation's kind; empty: it has none.
 func Root(kind int) string {
 	switch kind {
@@ -57,6 +72,15 @@ func each(l []api.Sel, parent string, defs []api.Def, yield func(Placed) bool) b
 	for _, x := range l {
 		p := place(x, parent, defs)
 		if !yield(p) || !each(x.Sels, p.within(), defs, yield) {
+			return false
+		}
+	}
+	return true
+}
+
+func spreads(l []api.Sel, yield func(string) bool) bool {
+	for _, x := range l {
+		if x.Kind == api.SelSpread && !yield(x.Name) || !spreads(x.Sels, yield) {
 			return false
 		}
 	}

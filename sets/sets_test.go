@@ -116,3 +116,42 @@ func TestKind(t *testing.T) {
 		t.Error(kind)
 	}
 }
+
+// The names of spreads, wherever they stand, each as often as it does; who has seen enough may leave.
+func TestSpreads(t *testing.T) {
+	d, _ := read(t, "type T{a:Int!}", "{a ...b c{...d ...{...b e:f{...on g{...h}}}} ...i}")
+	l := d.Ops[0].Sels
+	l[1].Sels = []api.Sel{{Kind: api.SelSpread, Name: "x"}, {Kind: -1, Name: "nope", Sels: []api.Sel{{Kind: api.SelSpread}}}}
+	l = append(l, api.Sel{Kind: api.SelKinds, Name: "nope"})
+	want := []string{"b", "x", "", "d", "b", "h", "i"}
+	if got := slices.Collect(sets.Spreads(l)); !slices.Equal(got, want) {
+		t.Errorf("%q, not %q", got, want)
+	}
+	for n := range want {
+		var got []string
+		for x := range sets.Spreads(l) {
+			got = append(got, x)
+			if len(got) > n {
+				break
+			}
+		}
+		if !slices.Equal(got, want[:n+1]) {
+			t.Errorf("%q, not %q", got, want[:n+1])
+		}
+	}
+	if got := slices.Collect(sets.Spreads(nil)); got != nil {
+		t.Errorf("%q", got)
+	}
+}
+
+// Of several fragments with one name the first counts.
+func TestFrags(t *testing.T) {
+	l := []api.Frag{{Name: "b", On: "1"}, {Name: "a", On: "2"}, {On: "3"}, {Name: "a", On: "4"}, {Name: "b", On: "5"}, {Name: "a", On: "6"}}
+	want := map[string]api.Frag{"b": l[0], "a": l[1], "": l[2]}
+	if m := sets.Frags(l); !reflect.DeepEqual(m, want) {
+		t.Errorf("%v, not %v", m, want)
+	}
+	if m := sets.Frags(nil); len(m) != 0 {
+		t.Errorf("%v", m)
+	}
+}
