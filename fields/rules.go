@@ -42,12 +42,12 @@ func (b broken) field(x sets.Placed, defs []api.Def) {
 func (b broken) directives(l []api.Directive) {
 	for _, x := range l {
 		b.note(api.ErrArgTwice, argTwice(x.Args))
-		b.note(api.ErrDirNone, !known(x))
-		if known(x) {
-			b.arguments(x.Args, []api.In{{Name: "if", Type: api.Ref{Name: "Boolean", Wraps: "!"}}})
+		b.note(api.ErrDirNone, !sets.Known(x))
+		if sets.Known(x) {
+			b.arguments(x.Args, sets.KnownArgs())
 		}
 	}
-	unknown := func(x api.Directive) bool { return !known(x) }
+	unknown := func(x api.Directive) bool { return !sets.Known(x) }
 	l = slices.DeleteFunc(slices.Clone(l), unknown)
 	b.note(api.ErrDirTwice, twice(l, func(x api.Directive) string { return x.Name }))
 }
@@ -89,8 +89,6 @@ func defining(d api.Doc) iter.Seq[[]api.Directive] {
 		}
 	}
 }
-
-func known(x api.Directive) bool { return x.Name == "skip" || x.Name == "include" }
 
 func argTwice(l []api.Arg) bool {
 	return twice(l, func(x api.Arg) string { return x.Name })

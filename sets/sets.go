@@ -1,4 +1,4 @@
-// Package sets says what chapter 11 calls sets, their parents and their fields' Outs, and what chapter 12 calls the fragment of a name, for the layers that ask rules of a document: see shared/doc/11-fields.md and shared/doc/12-frags.md.
+// Package sets says what chapter 11 calls sets, their parents, their fields' Outs and known directives, and what chapter 12 calls the fragment of a name, for the layers that ask rules of a document: see shared/doc/11-fields.md and shared/doc/12-frags.md.
 package sets
 
 import (
@@ -56,6 +56,14 @@ func Root(kind int) string {
 		return "Mutation"
 	}
 	return ""
+}
+
+// Known: is a directive a known one?
+func Known(x api.Directive) bool { return x.Name == "skip" || x.Name == "include" }
+
+// KnownArgs are the arguments of each known directive.
+func KnownArgs() []api.In {
+	return []api.In{{Name: "if", Type: api.Ref{Name: "Boolean", Wraps: "!"}}}
 }
 
 // Kind is that of a name's definition; -1: there is none.

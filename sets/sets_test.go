@@ -103,6 +103,22 @@ func TestRoot(t *testing.T) {
 	}
 }
 
+func TestKnown(t *testing.T) {
+	for name, want := range map[string]bool{"skip": true, "include": true, "": false, "Skip": false, "skip ": false, "if": false, "deprecated": false, "skipinclude": false} {
+		if is := sets.Known(api.Directive{Name: name}); is != want {
+			t.Errorf("%q: %v", name, is)
+		}
+	}
+	want := []api.In{{Name: "if", Type: api.Ref{Name: "Boolean", Wraps: "!"}}}
+	if l := sets.KnownArgs(); !slices.Equal(l, want) {
+		t.Errorf("%v", l)
+	}
+	sets.KnownArgs()[0].Name = "x"
+	if l := sets.KnownArgs(); !slices.Equal(l, want) {
+		t.Errorf("%v", l)
+	}
+}
+
 func TestKind(t *testing.T) {
 	for kind := -3; kind < api.DefKinds+3; kind++ {
 		defs := []api.Def{{Name: "T", Kind: kind}, {Name: "T", Kind: api.DefEnum}, {Name: "", Kind: kind}}
