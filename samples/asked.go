@@ -11,11 +11,12 @@ type asker struct {
 	*Trees
 	defs  []api.Def
 	frags []api.Frag // those that are whole
+	value func(api.Ref) api.Value
 }
 
 // Asked is a document that asks definitions, with a Query and a Mutation, for what they have, and so breaks no rule of packages fields and frags.
 func (m *Trees) Asked(defs []api.Def) api.Doc {
-	a := &asker{Trees: m, defs: defs}
+	a := &asker{Trees: m, defs: defs, value: func(api.Ref) api.Value { return m.Value(2, false) }}
 	ops := a.ops(1 + m.many(2, 20))
 	return api.Doc{Ops: ops, Frags: a.frags}
 }
@@ -121,7 +122,7 @@ func (a *asker) out(parent string, deep int) (api.Out, bool) {
 func (a *asker) given(ins []api.In) []api.Arg {
 	var l []api.Arg
 	for _, x := range ins {
-		v := a.Value(2, false)
+		v := a.value(x.Type)
 		wraps := x.Type.Wraps
 		needed := wraps != "" && wraps[len(wraps)-1] == '!'
 		if needed && v.Kind == api.ValNull {
@@ -139,11 +140,8 @@ func (a *asker) known() []api.Directive {
 	var l []api.Directive
 	for _, name := range []string{"skip", "include"} {
 		if a.Pick(5) == 0 {
-			v := api.Value{Kind: []int{api.ValTrue, api.ValFalse, api.ValVar}[a.Pick(3)]}
-			if v.Kind == api.ValVar {
-				v.Text = a.name()
-			}
-			l = append(l, api.Directive{Name: name, Args: []api.Arg{{Name: "if", Value: v}}})
+			ins := []api.In{{Name: "if", Type: api.Ref{Name: "Boolean", Wraps: "!"}}}
+			l = append(l, api.Directive{Name: name, Args: a.given(ins)})
 		}
 	}
 	return l
