@@ -33,6 +33,28 @@ func All(d api.Doc, defs []api.Def) iter.Seq[Placed] {
 	}
 }
 
+// Place is a selection as it stands in a set that has this parent.
+func Place(x api.Sel, parent string, defs []api.Def) Placed {
+	p := Placed{Sel: x, Parent: parent}
+	if x.Kind == api.SelField {
+		p.Out, p.HasOut = gen.Out(defs, parent, x.Name)
+	}
+	return p
+}
+
+// Within is the parent of the selection's own set.
+func (p Placed) Within() string {
+	switch {
+	case p.Kind == api.SelField:
+		return p.Out.Type.Name
+	case p.Kind == api.SelInline && p.On == "":
+		return p.Parent
+	case p.Kind == api.SelInline:
+		return p.On
+	}
+	return ""
+}
+
 // Spreads tells the name of each spread in selections, however deep it stands.
 func Spreads(l []api.Sel) iter.Seq[string] {
 	return func(yield func(string) bool) { spreads(l, yield) }
@@ -78,8 +100,8 @@ func Kind(defs []api.Def, name string) int {
 // each hands on the one yield, so that what stands deep costs no more than what does not.
 func each(l []api.Sel, parent string, defs []api.Def, yield func(Placed) bool) bool {
 	for _, x := range l {
-		p := place(x, parent, defs)
-		if !yield(p) || !each(x.Sels, p.within(), defs, yield) {
+		p := Place(x, parent, defs)
+		if !yield(p) || !each(x.Sels, p.Within(), defs, yield) {
 			return false
 		}
 	}
@@ -93,25 +115,4 @@ func spreads(l []api.Sel, yield func(string) bool) bool {
 		}
 	}
 	return true
-}
-
-func place(x api.Sel, parent string, defs []api.Def) Placed {
-	p := Placed{Sel: x, Parent: parent}
-	if x.Kind == api.SelField {
-		p.Out, p.HasOut = gen.Out(defs, parent, x.Name)
-	}
-	return p
-}
-
-// within is the parent of the selection's own set.
-func (p Placed) within() string {
-	switch {
-	case p.Kind == api.SelField:
-		return p.Out.Type.Name
-	case p.Kind == api.SelInline && p.On == "":
-		return p.Parent
-	case p.Kind == api.SelInline:
-		return p.On
-	}
-	return ""
 }

@@ -95,6 +95,27 @@ func TestAllLeft(t *testing.T) {
 	}
 }
 
+// A selection as it stands in a set of any parent, and the parent of its own set.
+func TestPlace(t *testing.T) {
+	_, defs := read(t, "type T{a:Int! u:U} type U{c:Float}", "{a}")
+	for _, c := range []struct {
+		x            api.Sel
+		parent, of   string
+		has          bool
+		within, name string
+	}{
+		{api.Sel{Name: "u", On: "Query"}, "T", "U", true, "U", "u"}, {api.Sel{Alias: "u", Name: "a"}, "T", "Int", true, "Int", "a"}, {api.Sel{Name: "__typename"}, "U", "String", true, "String", "__typename"},
+		{api.Sel{Name: "u"}, "U", "", false, "", ""}, {api.Sel{Name: "u"}, "nope", "", false, "", ""}, {api.Sel{Name: "u"}, "", "", false, "", ""},
+		{api.Sel{Kind: api.SelInline, Name: "u"}, "T", "", false, "T", ""}, {api.Sel{Kind: api.SelInline, On: "nope"}, "T", "", false, "nope", ""}, {api.Sel{Kind: api.SelInline}, "", "", false, "", ""},
+		{api.Sel{Kind: api.SelSpread, Name: "u", On: "U"}, "T", "", false, "", ""}, {api.Sel{Kind: -1, Name: "u", On: "U"}, "T", "", false, "", ""}, {api.Sel{Kind: api.SelKinds, Name: "u"}, "T", "", false, "", ""},
+	} {
+		p := sets.Place(c.x, c.parent, defs)
+		if !reflect.DeepEqual(p.Sel, c.x) || p.Parent != c.parent || p.HasOut != c.has || p.Out.Name != c.name || p.Out.Type.Name != c.of || p.Within() != c.within {
+			t.Errorf("%v of %q: %v, %q", c.x, c.parent, p, p.Within())
+		}
+	}
+}
+
 func TestRoot(t *testing.T) {
 	for kind, want := range map[int]string{api.OpQuery: "Query", api.OpMutation: "Mutation", api.OpSubscription: "", -1: "", api.OpKinds: "", 9: ""} {
 		if name := sets.Root(kind); name != want {
