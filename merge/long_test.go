@@ -98,6 +98,14 @@ func TestWide(t *testing.T) {
 	tells(t, api.Doc{Ops: ops, Frags: f}, defs)
 	f[0].Sels = append(slices.Clip(like), aliased("x", "i"))
 	tells(t, api.Doc{Ops: ops, Frags: f}, defs, 140)
+	// Many small sets that meet a great one.
+	f = []api.Frag{{Name: "f", On: "T", Sels: unlike}}
+	for i := range ops {
+		ops[i].Sels = []api.Sel{{Name: "queryT", Sels: append(spreads("f"), aliased("a7", "a"))}}
+	}
+	tells(t, api.Doc{Ops: ops, Frags: f}, defs)
+	ops[many-1].Sels[0].Sels[1].Name = "i"
+	tells(t, api.Doc{Ops: ops, Frags: f}, defs, 140)
 }
 
 // fragments are so many, on T, each with the selections that are made of its number.

@@ -50,8 +50,13 @@ func (m *meetings) mergeSets(x meeting) bool {
 	for to := range other.spreads {
 		m.meet(x.one, to, way)
 	}
-	for answer, l := range one.fields {
-		if !m.mergeLists(l, other.fields[answer], way) {
+	// Many small sets may meet a great one: only the lesser is gone over.
+	few, many := one.fields, other.fields
+	if len(few) > len(many) {
+		few, many = many, few
+	}
+	for answer, l := range few {
+		if !m.mergeLists(l, many[answer], way) {
 			return false
 		}
 	}
