@@ -91,7 +91,7 @@ func TestDeep(t *testing.T) {
 
 // Types with many signs.
 func TestLongWraps(t *testing.T) {
-	const many = 1000000
+	const many = 300000
 	defs := types(t, wide)
 	one, num := api.Json{Kind: api.JsonInt, Int: 1}, api.Value{Kind: api.ValInt, Text: "1"}
 	for _, at := range []api.Ref{{Name: "Int", Wraps: strings.Repeat("!", many)}, {Name: "Int", Wraps: "[?" + strings.Repeat("!", many)}} {
